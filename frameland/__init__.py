@@ -1,0 +1,1 @@
+"""Frameland: rooms of boxes on few frames."""
