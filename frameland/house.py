@@ -1,7 +1,7 @@
 """The house: which tasks and banks there are, and which pages are mapped; it holds no values."""
 
 from frameland.errors import Busy, NoBank, NoRight, NoTask, NotMapped, OutOfBank, OutOfRoom
-from frameland.stretches import Stretches, check_rights
+from frameland.stretches import Stretches, check_rights, end_of, tie_from
 from frameland.wholes import is_within
 
 MOST_IN_BANK = 64
@@ -97,6 +97,13 @@ class House:
     def tie_at(self, task, page):
         self.check_task(task)
         return self.tasks[task].tie_at(page)
+
+    # Each mapped page by itself, as a tuple (page, rights, tie): for those who tell what a task sees.
+    def pages_of(self, task):
+        mapped = []
+        for run in self.stretches_of(task):
+            mapped.extend([(page, run[2], tie_from(run, page)) for page in range(run[0], end_of(run))])
+        return mapped
 
     def check_task(self, task):
         if task not in self.tasks:
