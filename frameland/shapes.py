@@ -46,8 +46,11 @@ class Shape:
         if not self.has_page(page):
             raise OutOfRoom("the room has no such page")
 
+    def has_address(self, address):
+        return is_within(address, 0, self.pages * self.boxes - 1)
+
     def parted(self, address):
-        if not is_within(address, 0, self.pages * self.boxes - 1):
+        if not self.has_address(address):
             raise OutOfRoom("the room has no such address")
         return (address // self.boxes, address % self.boxes)
 

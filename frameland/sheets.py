@@ -17,7 +17,7 @@ class Sheets:
         self.come_back = 0
 
     def fresh(self, sheet, holder, marks):
-        if self.live_sheets() >= len(self.frames.lying) + len(self.slots.lying):
+        if self.is_full():
             raise NoRoom("as many sheets live as there are frames and slots")
         way = self.frame_for(None, marks)
         self.frames.lying[way[0]] = Sheet(sheet, holder)
@@ -47,6 +47,10 @@ class Sheets:
         sheet = self.lying_at(spot)
         return [] if sheet is None else sheet.told_holders()
 
+    def holder_count(self, spot):
+        sheet = self.lying_at(spot)
+        return 0 if sheet is None else len(sheet.holders)
+
     def sheet_at(self, spot):
         sheet = self.lying_at(spot)
         return None if sheet is None else list(sheet.boxes)
@@ -73,6 +77,9 @@ class Sheets:
 
     def live_sheets(self):
         return self.frames.live_count() + self.slots.live_count()
+
+    def is_full(self):
+        return self.live_sheets() >= len(self.frames.lying) + len(self.slots.lying)
 
     def hand_at(self):
         return self.hand

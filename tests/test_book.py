@@ -2,52 +2,9 @@ import random
 import unittest
 
 from frameland.book import Book
+from tests.plain import PlainBook
 
 FAR = 10 ** 59 + 3
-
-
-class PlainBook:
-    """The book written once more, with lists that are walked for each thing asked."""
-
-    def __init__(self, many):
-        self.rows, self.hand = [None] * many, 0
-
-    def place(self, task, page):
-        for place, row in enumerate(self.rows):
-            if row is not None and (row[0], row[1]) == (task, page):
-                return place
-        return None
-
-    def look(self, task, page):
-        place = self.place(task, page)
-        return None if place is None else self.rows[place][2]
-
-    def use(self, task, page):
-        place = self.place(task, page)
-        if place is not None:
-            self.rows[place][3] = True
-
-    def keep(self, task, page, entry):
-        place = self.place(task, page)
-        if place is not None:
-            self.rows[place][2] = entry
-        elif None in self.rows:
-            self.rows[self.rows.index(None)] = [task, page, entry, False]
-        elif self.rows:
-            while self.rows[self.hand][3]:
-                self.rows[self.hand][3] = False
-                self.hand = (self.hand + 1) % len(self.rows)
-            self.rows[self.hand] = [task, page, entry, False]
-            self.hand = (self.hand + 1) % len(self.rows)
-
-    def strike(self, task, page):
-        self.rows = [None if row is not None and row[:2] == [task, page] else row for row in self.rows]
-
-    def strike_task(self, task):
-        self.rows = [None if row is not None and row[0] == task else row for row in self.rows]
-
-    def told(self):
-        return [None if row is None else tuple(row) for row in self.rows]
 
 
 def filled(many):

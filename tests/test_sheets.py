@@ -4,119 +4,13 @@ import unittest
 
 from frameland.errors import NoRoom
 from frameland.sheets import Sheets
+from tests.plain import PlainSheets, frame, slot
 
 GREAT = 10 ** 299 + 7
 
 
 def page(number, task=0):
     return ("task", task, number)
-
-
-def frame(number):
-    return ("frame", number)
-
-
-def slot(number):
-    return ("slot", number)
-
-
-class PlainSheets:
-    """Written once more: a list of living sheets, each of which knows where it lies and which slot is its twin."""
-
-    def __init__(self, frames, slots):
-        self.frames, self.slots = frames, slots
-        self.live, self.hand, self.counts = [], 0, [0, 0, 0]
-
-    def at(self, spot):
-        return next((sheet for sheet in self.live if sheet["spot"] == spot), None)
-
-    def empty_frames(self):
-        return [number for number in range(self.frames) if self.at(frame(number)) is None]
-
-    def empty_slots(self):
-        twins = [sheet["twin"] for sheet in self.live]
-        return [number for number in range(self.slots) if self.at(slot(number)) is None and number not in twins]
-
-    def put_out(self, chosen, coming):
-        leaving = self.at(frame(chosen))
-        twinned = sorted((sheet["spot"][1], sheet["twin"]) for sheet in self.live if sheet["twin"] is not None)
-        self.counts[0] += 1
-        if leaving["twin"] is not None:
-            target = leaving["twin"]
-        else:
-            self.counts[1] += 1
-            ways = self.empty_slots() + [twin for number, twin in twinned]
-            target = ways[0] if ways else coming["spot"][1]
-        for sheet in self.live:
-            if sheet["twin"] == target:
-                sheet["twin"] = None
-        leaving["spot"] = slot(target)
-        return (target, sorted(leaving["holders"]))
-
-    def enter(self, sheet, marks):
-        passed, out, coming_from = [], None, sheet["spot"]
-        empty = self.empty_frames()
-        if empty:
-            chosen = empty[0]
-        else:
-            marks = list(marks)
-            while marks[self.hand]:
-                marks[self.hand] = False
-                passed.append(self.hand)
-                self.hand = (self.hand + 1) % self.frames
-            chosen = self.hand
-            self.hand = (self.hand + 1) % self.frames
-            out = self.put_out(chosen, sheet)
-        sheet["spot"] = frame(chosen)
-        if coming_from is not None:
-            self.counts[2] += 1
-            if self.at(coming_from) is None:
-                sheet["twin"] = coming_from[1]
-        return (chosen, passed, out)
-
-    def fresh(self, values, holder, marks):
-        if len(self.live) == self.frames + self.slots:
-            raise NoRoom()
-        sheet = {"values": list(values), "holders": {holder}, "spot": None, "twin": None}
-        answer = self.enter(sheet, marks)
-        self.live.append(sheet)
-        return answer
-
-    def back(self, number, marks):
-        return self.enter(self.at(slot(number)), marks)
-
-    def let_go(self, spot, holder):
-        self.at(spot)["holders"].remove(holder)
-        self.live = [sheet for sheet in self.live if sheet["holders"]]
-
-    def fold(self):
-        gone = []
-        for sheet in sorted(self.live, key=lambda sheet: sheet["spot"]):
-            if any(holder[0] == "bank" for holder in sheet["holders"]):
-                continue
-            earlier = [other for other in self.live if other["values"] == sheet["values"]
-                       and other["spot"] < sheet["spot"] and not any(holder[0] == "bank" for holder in other["holders"])]
-            if earlier:
-                first = min(earlier, key=lambda other: other["spot"])
-                first["holders"] |= sheet["holders"]
-                gone.append((sheet["spot"], first["spot"]))
-                self.live.remove(sheet)
-        return gone
-
-    def told_frames(self):
-        rows = [self.at(frame(number)) for number in range(self.frames)]
-        return [row and (row["values"], sorted(row["holders"]), row["twin"]) for row in rows]
-
-    def told_slots(self):
-        rows = []
-        for number in range(self.slots):
-            lying = self.at(slot(number))
-            twin = next((sheet for sheet in self.live if sheet["twin"] == number), None)
-            if lying is not None:
-                rows.append((lying["values"], sorted(lying["holders"]), None))
-            else:
-                rows.append(twin and (twin["values"], [], twin["spot"][1]))
-        return rows
 
 
 class SheetsCase(unittest.TestCase):
@@ -188,7 +82,8 @@ class FreshTest(SheetsCase):
     def test_kinds(self):
         sheets = self.filled(1, 1, 1)
         answer = sheets.fresh([1, 0], page(1), [True])
-        self.assertEqual([type(part) for part in (answer, answer[1], answer[2], answer[2][1])], [tuple, list, tuple, list])
+        kinds = [type(part) for part in (answer, answer[1], answer[2], answer[2][1])]
+        self.assertEqual(kinds, [tuple, list, tuple, list])
         self.assertIsInstance(sheets.told_frames()[0], tuple)
         self.assertIsInstance(sheets.told_slots()[0], tuple)
         self.assertIsInstance(sheets.moved(), tuple)
@@ -359,7 +254,9 @@ class FoldTest(SheetsCase):
     def test_among_slots(self):
         sheets = self.laid(1, 4, [3, 3, 2, 3, 8])
         self.assertEqual(sheets.fold(), [(slot(1), slot(0)), (slot(3), slot(0))])
-        self.assertEqual(sheets.told_slots(), [([3], [page(0), page(1), page(3)], None), None, ([2], [page(2)], None), None])
+        self.assertEqual(sheets.told_slots(), [
+            ([3], [page(0), page(1), page(3)], None), None, ([2], [page(2)], None), None,
+        ])
 
     def test_sheets_of_banks_are_left_alone(self):
         # Frames: 4, 4, 4; slots: 0, 4. The first frame's sheet and the second slot's are banks'.

@@ -77,7 +77,8 @@ class PutTest(StretchesCase):
         for rights in range(4):
             stretches = self.laid((4, 2, rights), (9, 1, rights, (0, 0)))
             self.assertEqual(stretches.told(), [(4, 2, rights, None), (9, 1, rights, (0, 0))])
-            self.assertEqual([stretches.rights_at(page) for page in (3, 4, 5, 6, 9)], [None, rights, rights, None, rights])
+            found = [stretches.rights_at(page) for page in (3, 4, 5, 6, 9)]
+            self.assertEqual(found, [None, rights, rights, None, rights])
 
     def test_the_ends_and_beside_them(self):
         for first, many in ((0, 1), (5, 1), (5, 7), (FAR, FAR), (FAR, 1), (0, FAR), (GREAT, GREAT)):
@@ -279,7 +280,8 @@ class ToldTest(StretchesCase):
                 self.do_one(chance, wide, stretches, plain)
                 self.assertEqual(stretches.told(), plain.told())
                 page = chance.randrange(wide + 3)
-                self.assertEqual((stretches.rights_at(page), stretches.tie_at(page)), plain.pages.get(page, (None, None)))
+                found = (stretches.rights_at(page), stretches.tie_at(page))
+                self.assertEqual(found, plain.pages.get(page, (None, None)))
                 for bank in range(3):
                     tied = any(tie is not None and tie[0] == bank for rights, tie in plain.pages.values())
                     self.assertIs(stretches.is_tied(bank), tied)
