@@ -33,7 +33,8 @@ class Book:
 
     def strike(self, task, page):
         if (task, page) in self.found:
-            self.rows[self.found.pop((task, page))] = None
+            place = self.found.pop((task, page))
+            self.rows[place] = None
 
     def strike_task(self, task):
         for key in list(self.found):

@@ -64,14 +64,9 @@ class Rooms:
 
     def fold(self):
         before = len(self.sheets)
-        stays = {}
-        for pages in self.private.values():
-            for page in list(pages):
-                number = stays.setdefault(tuple(self.sheets[pages[page]]), pages[page])
-                if number != pages[page]:
-                    self.let_page_go(pages, page)
-                    pages[page] = number
-                    self.havers[number] = self.havers[number] + 1
+        first_by_boxes = {}
+        for task in sorted(self.private):
+            self.fold_pages(self.private[task], first_by_boxes)
         return before - len(self.sheets)
 
     def task_list(self):
@@ -116,6 +111,14 @@ class Rooms:
         if page not in pages:
             pages[page] = self.new_sheet(self.noughts())
         return pages[page]
+
+    def fold_pages(self, pages, first_by_boxes):
+        for page in sorted(pages):
+            number = first_by_boxes.setdefault(tuple(self.sheets[pages[page]]), pages[page])
+            if number != pages[page]:
+                self.let_page_go(pages, page)
+                pages[page] = number
+                self.havers[number] = self.havers[number] + 1
 
     def new_sheet(self, boxes):
         if len(self.sheets) >= self.most:

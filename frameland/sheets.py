@@ -35,7 +35,8 @@ class Sheets:
         return way
 
     def hold(self, spot, holder):
-        self.lying_at(spot).holders[holder] = True
+        sheet = self.lying_at(spot)
+        sheet.holders[holder] = True
 
     def let_go(self, spot, holder):
         sheet = self.lying_at(spot)
@@ -68,11 +69,10 @@ class Sheets:
         for spot in self.all_spots():
             sheet = self.lying_at(spot)
             if sheet is not None and not sheet.is_banked():
-                stays = first_by_boxes.setdefault(tuple(sheet.boxes), spot)
-                if stays != spot:
-                    self.lying_at(stays).holders.update(sheet.holders)
-                    self.make_empty(spot)
-                    gone.append((spot, stays))
+                first = first_by_boxes.setdefault(tuple(sheet.boxes), spot)
+                if first != spot:
+                    self.hand_over(spot, first)
+                    gone.append((spot, first))
         return gone
 
     def live_sheets(self):
@@ -116,6 +116,11 @@ class Sheets:
         if frame is not None:
             return (self.sheet_at(("frame", frame)), [], frame)
         return None
+
+    def hand_over(self, spot, other):
+        for holder in self.holders_of(spot):
+            self.hold(other, holder)
+        self.make_empty(spot)
 
     def make_empty(self, spot):
         if spot[0] == "frame":

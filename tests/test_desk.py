@@ -114,9 +114,8 @@ class RefusalsTest(DeskCase):
         desk = self.opened(1, 0)
         for row in ("", " ", "new ", " new", "fork", "fork 01", "fork -1", "see 9 -1", "see 9", "laid", "laid 9 9",
                     "live 0", "fold 0", "lay 9 99 0 rx", "lay 9 99 0 rw 9", "lay 0 0 1 3", "guard 9 0 0 r",
-                    "write 9 0", "write 9 0 -0",
-                    "read 9 0 0",
-                    "bank -1", "drop 9 ", "end  9", "read 9 " + "1" * 61, "new\n", "NEW", "%"):
+                    "write 9 0", "write 9 0 -0", "read 9 0 0", "bank -1", "drop 9 ", "end  9", "read 9 " + "1" * 61,
+                    "new\n", "NEW", "%"):
             self.refused(NoRow, desk, row)
 
     def test_bad_rights_cannot_be_told(self):

@@ -144,6 +144,15 @@ class UsesTest(unittest.TestCase):
             if node not in called:
                 self.assertIn(node.attr, self.values, where)
 
+    def test_values_are_given_through_local_names(self):  # L18
+        for where, node in self.nodes((ast.Attribute, ast.Subscript)):
+            if isinstance(node.ctx, ast.Store):
+                root = node.value
+                while isinstance(root, (ast.Attribute, ast.Subscript)):
+                    root = root.value
+                self.assertIsInstance(root, ast.Name, where)
+                self.assertTrue(root.id.islower(), where)
+
     def test_errors(self):  # L19
         allowed = self.errors | {"KeyError", "ZeroDivisionError", "StopIteration"}
         for where, node in self.nodes(ast.Try):
