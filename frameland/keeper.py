@@ -185,8 +185,10 @@ class Keeper:
         return [self.is_seen(frame) for frame in range(self.frame_count)]
 
     def is_seen(self, frame):
-        held = [self.entries.look(holder) for holder in self.sheets.holders_of(("frame", frame))]
-        return any([has_bits(entry, SEEN) for entry in held])
+        for holder in self.sheets.holders_of(("frame", frame)):
+            if has_bits(self.entries.look(holder), SEEN):
+                return True
+        return False
 
     # What fresh and back answer: the frames passed are seen no more, and the sheet put out is named by its slot.
     def follow_hand(self, way):
